@@ -1,0 +1,1 @@
+"""Takenover: sheets copied along a row of offices, when nobody noted whether."""
