@@ -41,3 +41,36 @@ def are_sheets(thing):
     if not isinstance(thing, tuple) or not 1 <= len(thing) <= 12:
         return False
     return are_numbers(thing, len(thing)) and never_falls(thing)
+
+
+def is_side(thing):
+    """Tell whether this is a side of posts."""
+    return is_word(thing, "left") or is_word(thing, "right")
+
+
+def is_order(thing):
+    """Tell whether this is a tuple of all numbers below its length, of 1 to 12."""
+    if not isinstance(thing, tuple) or not 1 <= len(thing) <= 12:
+        return False
+    return are_numbers(thing, len(thing)) and len(set(thing)) == len(thing)
+
+
+def is_list(log, thing):
+    """Tell whether this has, for each office of the log, an edition or None."""
+    if not is_tuple_of(thing, log.offices):
+        return False
+    return are_numbers([edition for edition in thing if edition is not None], log.offices)
+
+
+def is_find(log, thing):
+    """Tell whether this is a find of the log: a moment, an office and an edition."""
+    if not is_tuple_of(thing, 3):
+        return False
+    return is_number(thing[0], len(log.rows) + 1) and are_numbers(thing[1:], log.offices)
+
+
+def are_finds(log, thing):
+    """Tell whether this is a list or tuple of at most 40 finds of the log."""
+    if not isinstance(thing, (list, tuple)) or len(thing) > 40:
+        return False
+    return all([is_find(log, find) for find in thing])

@@ -48,6 +48,15 @@ def finals(offices, rows):
     return {moments[-1] for moments in runs(offices, rows).values()}
 
 
+def finals_led_on(offices, rows):
+    """Return the same set, for logs of more rows: all sheets that can be there led on over each row."""
+    found = {tuple(range(offices))}
+    for x, y, sure in rows:
+        copied = {held[:x] + (held[y],) + held[x + 1:] for held in found}
+        found = copied if sure else found | copied
+    return found
+
+
 def cuts_of(sheets):
     """Return the cuts of all borders of some sheets, by counting."""
     return tuple(sum(1 for edition in sheets if edition < border) for border in range(len(sheets) + 1))
@@ -56,3 +65,89 @@ def cuts_of(sheets):
 def rising(offices):
     """Return all sheets of so many offices that never fall along the row."""
     return [held for held in product(range(offices), repeat=offices) if list(held) == sorted(held)]
+
+
+def true_in(moments, finds):
+    """Tell whether all finds are true of the sheets at all moments."""
+    return all(moments[moment][office] == edition for moment, office, edition in finds)
+
+
+def finds_at_end(rows, editions):
+    """Return the finds that a list at the last moment is."""
+    return [(len(rows), office, edition) for office, edition in enumerate(editions) if edition is not None]
+
+
+def can_be_among(ends, editions):
+    """Tell whether a list is true of one of these sheets."""
+    return any(all(edition in (None, here) for edition, here in zip(editions, held)) for held in ends)
+
+
+def all_lists(offices):
+    """Return all lists for so many offices."""
+    return list(product([None] + list(range(offices)), repeat=offices))
+
+
+def barred(side, row):
+    """Return the cut where a post of a side may not stand at a row, None if there is none."""
+    x, y, _ = row
+    if side == "left":
+        return x + 1 if y == x + 1 else None
+    return x if y == x - 1 else None
+
+
+def all_stands(offices, rows, side):
+    """Return all stands of posts of a side."""
+    return list(product(*[[cut for cut in range(offices + 1) if cut != barred(side, row)] for row in rows]))
+
+
+def walk_cost(side, thing):
+    """Return what a post pays, cut by cut."""
+    first, stands, last = thing
+    paid = 0
+    walk = [first] + list(stands) + [last]
+    for start, end in zip(walk, walk[1:]):
+        while start != end:
+            step = 1 if end > start else -1
+            paid += 1 if (step == 1) == (side == "left") else 0
+            start += step
+    return paid
+
+
+def passing(side, first, last, editions):
+    """Return the set of the editions of a list that pass a post."""
+    if side == "left":
+        return {edition for edition in editions[:last] if edition is not None and edition >= first}
+    return {edition for edition in editions[last:] if edition is not None and edition < first}
+
+
+def order_of(offices, rows, side):
+    """Return the left or the right order, by exchanges row by row."""
+    order = list(range(offices))
+    for x, y, _ in rows:
+        if side == "left" and y == x + 1 and order[x + 1] > order[x]:
+            order[x], order[x + 1] = order[x + 1], order[x]
+        if side == "right" and y == x - 1 and order[x] > order[x - 1]:
+            order[x - 1], order[x] = order[x], order[x - 1]
+    return tuple(order)
+
+
+def there_at(offices, rows, finds):
+    """Return for each moment the set of the sheets that are there in the doings in which the finds are true.
+
+    The sheets are led on over each row, and those from which the finds behind cannot come are left out.
+    """
+    shown = {}
+    for moment, office, edition in finds:
+        shown.setdefault(moment, []).append((office, edition))
+    found = [{tuple(range(offices))}]
+    for at, (x, y, sure) in enumerate(rows):
+        held_here = {held for held in found[-1] if all(held[o] == v for o, v in shown.get(at, []))}
+        found[-1] = held_here
+        copied = {held[:x] + (held[y],) + held[x + 1:] for held in held_here}
+        found.append(copied if sure else copied | held_here)
+    found[-1] = {held for held in found[-1] if all(held[o] == v for o, v in shown.get(len(rows), []))}
+    for at in range(len(rows) - 1, -1, -1):
+        x, y, sure = rows[at]
+        found[at] = {held for held in found[at] if held[:x] + (held[y],) + held[x + 1:] in found[at + 1]
+                     or not sure and held in found[at + 1]}
+    return found

@@ -96,7 +96,10 @@ class Language(unittest.TestCase):
                 self.assertIsInstance(node, STATEMENTS, name)
             self.assertEqual([], nodes(tree, *EXPRESSIONS, ast.AsyncFunctionDef, ast.Starred), name)
             self.assertEqual([], [node for node in nodes(tree, ast.FunctionDef) if node.decorator_list], name)
-            self.assertEqual([], nodes(tree, ast.Div, ast.Pow, ast.Try, ast.With, ast.Match), name)
+            self.assertEqual([], nodes(tree, ast.Div, ast.Try, ast.With, ast.Match), name)
+            for node in nodes(tree, ast.BinOp):
+                if isinstance(node.op, ast.Pow):
+                    self.assertIn(node.right.value, range(65), name)
             for node in nodes(tree, ast.Constant):
                 self.assertNotIsInstance(node.value, (float, complex), name)
                 if isinstance(node.value, str):
