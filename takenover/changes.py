@@ -1,5 +1,6 @@
 """Logs made out of logs, and sheets led over one row."""
 
+from takenover.checks import check_row
 from takenover.errors import BadRow, NoNumber, NoRow, NoSheets, OtherOffices
 from takenover.kinds import are_sheets, is_between, is_number
 from takenover.logs import log_of_any_size
@@ -30,8 +31,7 @@ def mirrored(log):
 
 def without(log, row):
     """Return the log without the row of this number."""
-    if not is_number(row, len(log.rows)):
-        raise NoRow()
+    check_row(log, row)
     return log_of_any_size(log.offices, log.rows[:row] + log.rows[row + 1:])
 
 
@@ -53,7 +53,6 @@ def can_follow(log, editions, row):
     """Return the sheets behind a row if it is not done, and if it is."""
     if not are_sheets(editions) or len(editions) != log.offices:
         raise NoSheets()
-    if not is_number(row, len(log.rows)):
-        raise NoRow()
+    check_row(log, row)
     x, y, _ = log.rows[row]
     return editions, editions[:x] + (editions[y],) + editions[x + 1:]

@@ -1,15 +1,16 @@
 """Dated finds: whether they fit a log, in which doing, and between which cuts."""
 
-from takenover.bounds import doing_in_which, least_bounds
-from takenover.changes import mirrored
+from takenover.borders import borders
 from takenover.checks import check_finds
+from takenover.extremes import doing_in_which, greatest_editions, least_editions, sheets_by
 from takenover.logs import all_sheets, is_doing
+from takenover.spans import Spans
 
 
 def fit(log, finds):
     """Tell whether in some doing all finds are true."""
     check_finds(log, finds)
-    return least_bounds(log, finds) is not None
+    return greatest_editions(Spans(log, ()), finds) is not None
 
 
 def doing_for(log, finds):
@@ -27,19 +28,25 @@ def is_doing_for(log, finds, thing):
     return all([moments[moment][office] == edition for moment, office, edition in finds])
 
 
+def cuts_by(spans, editions):
+    """Return the cuts of all borders at each moment if the spans hold these editions."""
+    return tuple([borders(held) for held in sheets_by(spans, editions)])
+
+
 def least_cuts(log, finds):
     """Return the least cuts of all borders at each moment, None if the finds do not fit."""
     check_finds(log, finds)
-    cuts = least_bounds(log, finds)
-    return None if cuts is None else tuple([tuple(stands) for stands in cuts])
+    spans = Spans(log, ())
+    editions = greatest_editions(spans, finds)
+    return None if editions is None else cuts_by(spans, editions)
 
 
 def greatest_cuts(log, finds):
     """Return the greatest cuts of all borders at each moment, None if the finds do not fit."""
-    cuts = least_bounds(mirrored(log), mirrored_finds(log, finds))
-    if cuts is None:
-        return None
-    return tuple([tuple([log.offices - cut for cut in stands[::-1]]) for stands in cuts])
+    check_finds(log, finds)
+    spans = Spans(log, ())
+    editions = least_editions(spans, finds)
+    return None if editions is None else cuts_by(spans, editions)
 
 
 def mirrored_finds(log, finds):

@@ -1,5 +1,7 @@
 """What kind of thing an object is, told of any object without an error."""
 
+from math import gcd
+
 
 def is_integer(thing):
     """Tell whether this is an integer; a flag is none."""
@@ -69,8 +71,16 @@ def is_find(log, thing):
     return is_number(thing[0], len(log.rows) + 1) and are_numbers(thing[1:], log.offices)
 
 
-def are_finds(log, thing):
-    """Tell whether this is a list or tuple of at most 40 finds of the log."""
-    if not isinstance(thing, (list, tuple)) or len(thing) > 40:
+def are_finds(log, thing, most):
+    """Tell whether this is a list or tuple of at most so many finds of the log."""
+    if not isinstance(thing, (list, tuple)) or len(thing) > most:
         return False
     return all([is_find(log, find) for find in thing])
+
+
+def is_fraction(thing):
+    """Tell whether this is a pair (top, bottom) of integers without a common divisor above 1, bottom from 1 on."""
+    if not is_tuple_of(thing, 2):
+        return False
+    top, bottom = thing
+    return is_integer(top) and is_integer(bottom) and bottom >= 1 and gcd(top, bottom) == 1

@@ -1,9 +1,8 @@
 """Lists of editions at the last moment: whether one can be, and what bars it."""
 
 from takenover.barring import least_offices_barred
-from takenover.bounds import doing_in_which
-from takenover.checks import check_list, check_no_sure_row
-from takenover.errors import TooMany
+from takenover.checks import check_few_offices, check_list, check_no_sure_row
+from takenover.extremes import doing_in_which
 from takenover.kinds import are_numbers, is_side, is_tuple_of, is_word
 from takenover.logs import is_doing, sheets
 from takenover.posts import editions_passing, is_post, post, post_price, prices
@@ -101,8 +100,7 @@ def least_barred(log, editions):
 
 def clashing(log):
     """Return the ascending list of the pairs of (office, edition) each of which can be, but not both."""
-    if log.offices > MOST_CLASHING:
-        raise TooMany(MOST_CLASHING)
+    check_few_offices(log, MOST_CLASHING)
     alone = {}
     together = {}
     for held in last_sheets(log):

@@ -1,7 +1,8 @@
 """Logs, and what is told of one doing of a log."""
 
-from takenover.errors import BadLog, NoDoing, NoOffice
-from takenover.kinds import is_between, is_number, is_tuple_of
+from takenover.checks import check_office
+from takenover.errors import BadLog, NoDoing
+from takenover.kinds import is_between, is_tuple_of
 from takenover.rows import is_row
 
 MOST_OFFICES = 12
@@ -71,8 +72,7 @@ def all_sheets(log, doing):
 def bloodline(log, doing, office):
     """Return the offices through which the sheet of an office came, from its first one on."""
     check_doing(log, doing)
-    if not is_number(office, log.offices):
-        raise NoOffice()
+    check_office(log, office)
     line = [office]
     for row, done in zip(log.rows[::-1], doing[::-1]):
         if done and row[0] == line[-1]:

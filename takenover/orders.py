@@ -2,8 +2,8 @@
 
 from math import factorial
 
-from takenover.checks import check_cut, check_order, check_side
-from takenover.errors import NoNumber, NoOrder
+from takenover.checks import check_cut, check_order, check_orders, check_side
+from takenover.errors import NoNumber
 from takenover.kinds import is_between, is_number
 from takenover.rows import cut_between, is_left
 
@@ -64,10 +64,7 @@ def places_to(order):
 
 def order_behind(one, other):
     """Return the order of a log with another one behind it, by the orders of both."""
-    check_order(one)
-    check_order(other)
-    if len(one) != len(other):
-        raise NoOrder()
+    check_orders(one, other)
     return exchanged_at(one, places_to(other))
 
 

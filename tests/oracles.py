@@ -1,6 +1,6 @@
 """Answers found apart from the program: all doings gone through, sheets copied row by row."""
 
-from itertools import product
+from itertools import combinations, product
 
 
 def row_choices(offices, sures=(False, True)):
@@ -151,3 +151,88 @@ def there_at(offices, rows, finds):
         found[at] = {held for held in found[at] if held[:x] + (held[y],) + held[x + 1:] in found[at + 1]
                      or not sure and held in found[at + 1]}
     return found
+
+
+def subsets(things):
+    """Return all tuples of some ascending things, fewer first, then the least."""
+    return [some for many in range(len(things) + 1) for some in combinations(things, many)]
+
+
+def comes_from_outside(offices, finds, bound):
+    """Tell whether a bound comes from the start or from a find, as 7.2 says."""
+    if bound in [(0, border, border) for border in range(offices + 1)]:
+        return True
+    return any(bound == (moment, edition + 1, office + 1) for moment, office, edition in finds)
+
+
+def comes_from(offices, rows, finds, ahead, bound):
+    """Tell whether a bound comes from another one, clause by clause of 7.2."""
+    m, a, c = ahead
+    if bound[0] == m:
+        if bound[1] != a + 1 or a + 1 > offices:
+            return False
+        apart = any(edition == a and moment >= m for moment, _, edition in finds)
+        return bound[2] == c or (apart and bound[2] == c + 1)
+    if bound[1] != a:
+        return False
+    if bound[0] == m + 1 and m < len(rows):
+        x, y, sure = rows[m]
+        if (x, y) == (c - 1, c):
+            return bound[2] == c - 1
+        if sure and (x, y) == (c, c - 1):
+            return bound[2] == c + 1
+        return bound[2] == c
+    if bound[0] == m - 1 and m > 0:
+        x, y, sure = rows[m - 1]
+        if (x, y) == (c - 1, c - 2):
+            return bound[2] == c - 1
+        if sure and (x, y) == (c - 1, c):
+            return bound[2] == c + 1
+        return bound[2] == c
+    return False
+
+
+def denied(finds, bound):
+    """Tell whether a bound is denied by the start or by a find."""
+    m, a, c = bound
+    return (m == 0 and c > a) or any((m, a) == (moment, edition) and c > x for moment, x, edition in finds)
+
+
+def right_chain(offices, rows, finds, thing):
+    """Judge a list of triples of integers clause by clause of 7.2."""
+    if not thing or not comes_from_outside(offices, finds, thing[0]):
+        return False
+    if not all(comes_from(offices, rows, finds, ahead, bound) for ahead, bound in zip(thing, thing[1:])):
+        return False
+    return denied(finds, thing[-1])
+
+
+def counts_on(offices, rows, finds, denials=(), ahead_of=None):
+    """Return for the sheets at the last moment how many doings lead there, with the finds true, the denials not.
+
+    Only doings ahead of one of them, ascending, are counted if that is told.
+    """
+    def right(at, held):
+        here = all(held[office] == edition for moment, office, edition in finds if moment == at)
+        return here and not any(held[office] == edition for moment, office, edition in denials if moment == at)
+
+    start = tuple(range(offices))
+    counts = {start: 1} if ahead_of is None and right(0, start) else {}
+    along = start if right(0, start) else None
+    for at, (x, y, sure) in enumerate(rows):
+        behind = {}
+        ways = (True,) if sure else (False, True)
+        choices = [(held, number, done) for held, number in counts.items() for done in ways]
+        if ahead_of is not None and along is not None:
+            if ahead_of[at] and not sure:
+                choices.append((along, 1, False))
+            if ahead_of[at]:
+                along = along[:x] + (along[y],) + along[x + 1:]
+            if not right(at + 1, along):
+                along = None
+        for held, number, done in choices:
+            to = held[:x] + (held[y],) + held[x + 1:] if done else held
+            if right(at + 1, to):
+                behind[to] = behind.get(to, 0) + number
+        counts = behind
+    return counts

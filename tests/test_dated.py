@@ -1,47 +1,15 @@
 import random
 import unittest
 
-from oracles import all_rows, cuts_of, run, runs, some_rows, true_in
+from oracles import cuts_of, run, runs, some_rows, true_in
+from samples import with_finds
 from takenover.changes import mirrored
 from takenover.dated import doing_for, fit, greatest_cuts, is_doing_for, least_cuts, mirrored_finds
 from takenover.errors import NoFinds
 from takenover.logs import Log
-from wrongs import nested, try_wrongs, wrong_things
+from wrongs import K, NO_FINDS, SURE, try_wrongs, wrong_things
 
-K = Log(4, ((1, 0, False), (2, 1, False), (2, 3, False), (1, 2, False)))
-SURE = Log(4, K.rows[:2] + ((2, 3, True), (1, 2, False)))
 FINDS = [(2, 2, 1), (4, 1, 1)]
-RIGHT = ([], (), [(0, 0, 0)])
-NO_FINDS = [thing for thing in wrong_things() if not any(thing is one or (isinstance(thing, (list, tuple))
-            and thing == one) for one in RIGHT)]
-NO_FINDS += [[(5, 0, 0)], [(-1, 0, 0)], [(0, 4, 0)], [(0, -1, 0)], [(0, 0, 4)], [(0, 0, -1)], [(0, 0)], [(0, 0, 0, 0)]]
-NO_FINDS += [[(True, 0, 0)], [(0, False, 0)], [(0, 0, False)], [[0, 0, 0]], [(None, 0, 0)], (0, 0, 0), [((0, 0, 0),)]]
-NO_FINDS += [[(0, 0, 0)] * 41, ((0, 0, 0),) * 41, [(0, 0, 0), (4, 4, 4)], {(0, 0, 0): 1}, [(0, 0, nested(tuple, 37))]]
-NO_FINDS += [[(nested(list, 38), 0, 0)], [(10 ** 39, 0, 0)], ["000"], [(0, "0", 0)], [(0, 0, Log(1, ()))]]
-
-
-def with_finds(seed, sizes):
-    """Return logs with all their runs, each with some finds near such as fit."""
-    chance = random.Random(seed)
-    logs = [(3, rows) for rows in all_rows(3, 2)] + [(1, ()), (3, ())]
-    for offices, many, times in sizes:
-        for _ in range(times):
-            sures = chance.choice([(False,), (False, True), (False, False, False, True)])
-            logs.append((offices, some_rows(chance, offices, many, sures)))
-    found = []
-    for offices, rows in logs:
-        told = runs(offices, rows)
-        for _ in range(6):
-            base = chance.choice(list(told.values()))
-            finds = []
-            for _ in range(chance.randint(0, 5)):
-                moment, office = chance.randint(0, len(rows)), chance.randrange(offices)
-                edition = base[moment][office] if chance.random() < 0.75 else chance.randrange(offices)
-                finds.append((moment, office, edition))
-            found.append((offices, rows, told, finds))
-    return found
-
-
 SIZES = ((2, 6, 20), (3, 7, 40), (4, 8, 40), (5, 9, 15), (8, 9, 5), (12, 9, 5))
 
 

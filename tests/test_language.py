@@ -13,13 +13,14 @@ isinstance ord repr any all divmod ValueError True False None""".split())
 METHODS = set("""append clear copy count endswith extend find get index insert isalnum isalpha isdigit islower isspace
 isupper items join keys ljust lower lstrip partition pop remove replace reverse rfind rjust rpartition rsplit rstrip
 setdefault split splitlines startswith strip update upper values zfill bit_length add discard""".split())
-OUTSIDE = {"heapq": {"heappush", "heappop"}, "math": {"gcd", "factorial", "comb"}}
+OUTSIDE = {"heapq": {"heappush", "heappop"}, "math": {"gcd", "factorial", "comb", "isqrt"}}
+OUTSIDE["itertools"] = {"combinations"}
 BARRED = set("""register mro elements open input law version_info attrgetter breakpoint builtins compile copyright
 credits delattr dir eval exec exit gc globals help id importlib license locals methodcaller os quit super type vars
 sys""".split())
 SPECIAL = {"__init__", "__eq__"}
 STATEMENTS = (ast.FunctionDef, ast.ClassDef, ast.Import, ast.ImportFrom, ast.Assign, ast.Expr)
-EXPRESSIONS = (ast.GeneratorExp, ast.Lambda, ast.Yield, ast.YieldFrom, ast.Await, ast.NamedExpr, ast.Global)
+EXPRESSIONS = (ast.GeneratorExp, ast.Yield, ast.YieldFrom, ast.Await, ast.NamedExpr, ast.Global)
 
 
 def file_names():

@@ -6,6 +6,10 @@ from takenover.errors import BadLog, NoAnswer, NoDoing
 from takenover.logs import Log
 
 
+K = Log(4, ((1, 0, False), (2, 1, False), (2, 3, False), (1, 2, False)))
+SURE = Log(4, K.rows[:2] + ((2, 3, True), (1, 2, False)))
+
+
 def nested(kind, deep):
     """Return things of a kind nested so deep."""
     inner = 0
@@ -33,6 +37,23 @@ def wrong_things():
         out += [("post", "left", nested(tuple, deep - 1)), (0, nested(tuple, deep - 1), 0)]
     out += [(0,) * 9999, [0] * 9999, (False,) * 9999, "x" * 20000, (10 ** 39,), (10 ** 39,) * 3]
     return out
+
+
+def wrong_but(rights):
+    """Return wrong things without those that are equal to one of these."""
+    kinds = (int, str, list, tuple, dict, bool)
+    return [thing for thing in wrong_things() if not any(isinstance(thing, kinds) and thing.__class__ is one.__class__
+                                                         and thing == one for one in rights)]
+
+
+def no_finds(most):
+    """Return what are no finds of a log of 4 offices and 4 rows, of which at most so many are let."""
+    out = wrong_but([[], (), [(0, 0, 0)]])
+    out += [[(5, 0, 0)], [(-1, 0, 0)], [(0, 4, 0)], [(0, -1, 0)], [(0, 0, 4)], [(0, 0, -1)], [(0, 0)], [(0, 0, 0, 0)]]
+    out += [[(True, 0, 0)], [(0, False, 0)], [(0, 0, False)], [[0, 0, 0]], [(None, 0, 0)], (0, 0, 0), [((0, 0, 0),)]]
+    out += [[(0, 0, 0)] * (most + 1), ((0, 0, 0),) * (most + 1), [(0, 0, 0), (4, 4, 4)], {(0, 0, 0): 1}]
+    out += [[(0, 0, nested(tuple, 37))], [(nested(list, 38), 0, 0)], [(10 ** 39, 0, 0)], ["000"], [(0, "0", 0)]]
+    return out + [[(0, 0, Log(1, ()))], (x for x in [(0, 0, 0)]), iter([(0, 0, 0)])]
 
 
 def wrong_numbers():
@@ -72,3 +93,6 @@ def try_wrongs(case, function, args, errors):
                     raised = error_of(function, *put_at(args, {at: thing, later: other}))
                     case.assertIs(error, raised.__class__, (function.__name__, at, later))
         case.assertEqual(answer, function(*args))
+
+
+NO_FINDS = no_finds(40)
