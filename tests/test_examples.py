@@ -3,11 +3,14 @@
 import unittest
 
 from takenover.borders import borders, read_off
+from takenover.counts import count_doings, count_final, fewest_done
 from takenover.dated import fit
+from takenover.ends import can_be_alone, can_hold
 from takenover.lists import can_be, is_bar
 from takenover.logs import Log, bloodline, sheets
 from takenover.orders import orders
 from takenover.posts import price
+from takenover.telling import told
 
 K = Log(4, ((1, 0, False), (2, 1, False), (2, 3, False), (1, 2, False)))
 
@@ -37,8 +40,18 @@ class Examples(unittest.TestCase):
     def test_e06(self):
         self.assertIs(True, is_bar(K, (None, 0, 1, None), ("post", "right", (2, (2, 1, 1, 1), 1))))
 
-    def test_e08_of_fit(self):
+    def test_e07(self):
+        self.assertEqual((0, 1, 2, 3), can_hold(K, 1))
+        self.assertEqual((), can_be_alone(K))
+
+    def test_e08(self):
         self.assertIs(False, fit(K, [(2, 2, 0), (4, 1, 1)]))
+        self.assertEqual("open", told(K, [(4, 1, 2)], (1, 1, 1)))
+
+    def test_e09(self):
+        self.assertEqual(16, count_doings(K, []))
+        self.assertEqual(8, count_final(K))
+        self.assertEqual((2, (False, False, True, True)), fewest_done(K, [(4, 1, 3)]))
 
 
 if __name__ == "__main__":
