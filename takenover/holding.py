@@ -20,7 +20,7 @@ class Holding:
         self.fits = self.greatest is not None
         self.least = least_editions(spans, finds) if self.fits else None
 
-    def is_between(self, span, edition):
+    def is_within(self, span, edition):
         """Tell whether an edition is neither below the least nor above the greatest one of a span."""
         return self.fits and self.least[span] <= edition <= self.greatest[span]
 
@@ -32,18 +32,18 @@ class Holding:
         """Return for each span whether it can hold an edition."""
         there = self.spans.there
         found = [False] * len(self.spans.no_greater)
-        found[edition] = self.is_between(edition, edition)
+        found[edition] = self.is_within(edition, edition)
         for (x, y, sure), ahead, behind in zip(self.spans.rows, there, there[1:]):
             span = behind[x]
             if span != ahead[x]:
                 came = found[ahead[y]] or (found[ahead[x]] and not sure)
-                found[span] = came and self.is_between(span, edition)
+                found[span] = came and self.is_within(span, edition)
         return found
 
     def editions_at(self, moment, office):
         """Return the ascending tuple of the editions that an office can hold at a moment."""
         span = self.spans.there[moment][office]
-        likely = [edition for edition in range(self.spans.offices) if self.is_between(span, edition)]
+        likely = [edition for edition in range(self.spans.offices) if self.is_within(span, edition)]
         return tuple([edition for edition in likely if self.holders(edition)[span]])
 
     def offices_at(self, moment, edition):
