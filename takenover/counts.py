@@ -1,14 +1,13 @@
 """The doings in which finds are true, counted, numbered and weighed by chances."""
 
-from math import gcd
-
 from takenover.checks import check_edition, check_few_offices, check_finds, check_moment, check_office
 from takenover.dated import is_doing_for
-from takenover.errors import NoChances, NoDoing, NoNumber, TooMany
-from takenover.kinds import is_fraction, is_integer, is_tuple_of
+from takenover.errors import NoDoing, NoNumber, TooMany
+from takenover.kinds import is_integer
 from takenover.logs import check_doing
 from takenover.reach import Field, last_sheets
-from takenover.tables import ChanceRule, FewestRule, Tables, count_rule, counts_to, flags_by
+from takenover.tables import ChanceRule, FewestRule, Tables, count_rule, doings_through, flags_by
+from takenover.weighing import check_chances, fraction, whole_weight
 from takenover.words import word_for
 
 MOST_OFFICES = 8
@@ -129,26 +128,14 @@ def fewest_done(log, finds):
     return least, tuple(found)
 
 
-def check_chances(log, chances):
-    """Raise NoChances unless this is a tuple with a fraction from 0 to 1 for each row."""
-    if not is_tuple_of(chances, len(log.rows)):
-        raise NoChances()
-    if not all([is_fraction(each) and 0 <= each[0] <= each[1] for each in chances]):
-        raise NoChances()
-
-
 def chance(log, finds, chances):
     """Return the chance that the finds are true if each row is done with its chance."""
     check_finds(log, finds)
     check_chances(log, chances)
     check_few_offices(log, MOST_OFFICES)
     field = Field(log)
-    top = ChanceRule(field, flags_by(field, finds), chances).table_at(0)[0]
-    bottom = 1
-    for (_, _, sure), (_, below) in zip(log.rows, chances):
-        bottom = bottom if sure else bottom * below
-    common = gcd(top, bottom)
-    return top // common, bottom // common
+    weight = ChanceRule(field, flags_by(field, finds), chances).table_at(0)[0]
+    return fraction(weight, whole_weight(log, chances))
 
 
 def final_rows(log):
@@ -193,8 +180,7 @@ def asked_next(log, finds, moment):
     check_moment(log, moment)
     check_few_offices(log, MOST_OFFICES)
     rule = counting(log, finds)
-    ahead = counts_to(rule.field, rule.flags, moment)
-    doings = [one * other for one, other in zip(ahead, rule.table_at(moment))]
+    doings = doings_through(rule, moment)
     if not any([number > 0 for number in doings]):
         return None
     worst = []

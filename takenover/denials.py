@@ -14,7 +14,7 @@ def is_untrue(spans, editions, denials):
 
 def extreme_doing(held, denials):
     """Return the doing of all greatest or of all least editions if no denial is true in it, None otherwise."""
-    if held.fits:
+    if held.possible:
         for editions in (held.greatest, held.least):
             if is_untrue(held.spans, editions, denials):
                 return doing_by(held.spans, editions)

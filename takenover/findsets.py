@@ -27,7 +27,7 @@ class FindSets:
         """Tell whether a further find is untrue in some doing in which those in a set are true."""
         moment, office, edition = find
         held = Holding(self.spans, self.those(chosen))
-        return held.fits and not held.is_sure(self.spans.there[moment][office], edition)
+        return held.possible and not held.is_sure(self.spans.there[moment][office], edition)
 
     def least_clash_in(self, chosen):
         """Return a set of finds that do not fit, but do without any one of them, in one that does not fit."""

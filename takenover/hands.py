@@ -4,7 +4,7 @@ from takenover.checks import check_finds
 from takenover.choosing import grown, numbers_in, right_choices
 from takenover.errors import NoHands
 from takenover.extremes import greatest_editions
-from takenover.kinds import are_numbers, is_tuple_of
+from takenover.kinds import are_numbers, ascends, is_tuple_of
 from takenover.spans import Spans
 
 MANY_HANDS = 12
@@ -18,9 +18,7 @@ def check_hands(log, hands):
 
 def check_lot(lot):
     """Raise NoHands unless this is an ascending tuple of hands."""
-    if not isinstance(lot, tuple) or not are_numbers(lot, MANY_HANDS):
-        raise NoHands()
-    if any([one >= other for one, other in zip(lot, lot[1:])]):
+    if not isinstance(lot, tuple) or not are_numbers(lot, MANY_HANDS) or not ascends(lot):
         raise NoHands()
 
 

@@ -17,16 +17,16 @@ class Holding:
     def __init__(self, spans, finds):
         self.spans = spans
         self.greatest = greatest_editions(spans, finds)
-        self.fits = self.greatest is not None
-        self.least = least_editions(spans, finds) if self.fits else None
+        self.possible = self.greatest is not None
+        self.least = least_editions(spans, finds) if self.possible else None
 
     def is_within(self, span, edition):
         """Tell whether an edition is neither below the least nor above the greatest one of a span."""
-        return self.fits and self.least[span] <= edition <= self.greatest[span]
+        return self.possible and self.least[span] <= edition <= self.greatest[span]
 
     def is_sure(self, span, edition):
         """Tell whether a span holds this edition in all of the doings, where there are some."""
-        return self.fits and self.least[span] == edition == self.greatest[span]
+        return self.possible and self.least[span] == edition == self.greatest[span]
 
     def holders(self, edition):
         """Return for each span whether it can hold an edition."""

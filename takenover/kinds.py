@@ -38,6 +38,11 @@ def never_falls(numbers):
     return all([one <= other for one, other in zip(numbers, numbers[1:])])
 
 
+def ascends(things):
+    """Tell whether each of these, all of one kind, is greater than the one ahead of it."""
+    return all([one < other for one, other in zip(things, things[1:])])
+
+
 def are_sheets(thing):
     """Tell whether these can be sheets, of one to twelve offices, as they never fall along the row."""
     if not isinstance(thing, tuple) or not 1 <= len(thing) <= 12:

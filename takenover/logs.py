@@ -2,24 +2,17 @@
 
 from takenover.checks import check_office
 from takenover.errors import BadLog, NoDoing
-from takenover.kinds import is_between, is_tuple_of
-from takenover.rows import is_row
-
-MOST_OFFICES = 12
-MOST_ROWS = 60
+from takenover.kinds import is_tuple_of
+from takenover.rows import is_row, wrong_part
 
 
 class Log:
     """The moments, in time, at which an office may have copied the sheet of a neighbour."""
 
     def __init__(self, offices, rows):
-        if not is_between(offices, 1, MOST_OFFICES):
-            raise BadLog("offices")
-        if not isinstance(rows, tuple) or len(rows) > MOST_ROWS:
-            raise BadLog("rows")
-        for number, row in enumerate(rows):
-            if not is_row(offices, row):
-                raise BadLog(number)
+        part = wrong_part(offices, rows, is_row)
+        if part is not None:
+            raise BadLog(part)
         self.offices = offices
         self.rows = rows
 

@@ -90,6 +90,21 @@ class ChanceRule(CountRule):
         return [(bottom - top) * one + top * other for one, other in zip(undone, done)]
 
 
+class LikeliestRule(CountRule):
+    """The greatest chance of a doing of the rows behind through flags alone, times the bottoms, -1 if there is none."""
+
+    def __init__(self, field, flags, chances):
+        CountRule.__init__(self, field, flags, 1, -1)
+        self.chances = chances
+
+    def joined(self, at, undone, done):
+        """Return the table ahead of a row, not a sure one, by what is told if it is not done and if it is."""
+        top, bottom = self.chances[at]
+        ones = [-1 if one < 0 else (bottom - top) * one for one in undone]
+        others = [-1 if other < 0 else top * other for other in done]
+        return [max(one, other) for one, other in zip(ones, others)]
+
+
 class Tables:
     """The tables of a rule, to be asked for from the first moment on.
 
@@ -138,3 +153,9 @@ def counts_to(field, flags, moment):
             behind[to] += count
         counts = behind
     return counts
+
+
+def doings_through(rule, moment):
+    """Return how many of the doings that a rule counts lead through each sheets at a moment."""
+    ahead = counts_to(rule.field, rule.flags, moment)
+    return [one * other for one, other in zip(ahead, rule.table_at(moment))]

@@ -47,7 +47,7 @@ def told(log, finds, find):
     held = held_between(log, finds)
     moment, office, edition = find
     span = held.spans.there[moment][office]
-    return word_for(held.holders(edition)[span], held.fits and not held.is_sure(span, edition))
+    return word_for(held.holders(edition)[span], held.possible and not held.is_sure(span, edition))
 
 
 def with_sure_row(log, row):

@@ -1,8 +1,10 @@
-"""Small logs drawn with a fixed seed, with finds near such as fit."""
+"""Logs, finds and chances drawn with a fixed seed."""
 
 import random
 
-from oracles import all_rows, runs, some_rows
+from fractions import Fraction
+
+from oracles import all_rows, run, runs, some_rows
 
 
 def with_finds(seed, sizes):
@@ -24,4 +26,36 @@ def with_finds(seed, sizes):
                 edition = base[moment][office] if chance.random() < 0.75 else chance.randrange(offices)
                 finds.append((moment, office, edition))
             found.append((offices, rows, told, finds))
+    return found
+
+
+def rows_of(text):
+    """Return the rows of a text."""
+    return tuple((int(one[0]), int(one[1]), one.endswith("!")) for one in text.split())
+
+
+def finds_of(source, log, many, done=0.2):
+    """Return finds that are true in one doing."""
+    offices, rows = log.offices, log.rows
+    moments = run(offices, rows, tuple(sure or source.random() < done for _, _, sure in rows))
+    places = [(source.randint(0, len(rows)), source.randrange(offices)) for _ in range(many)]
+    return [(moment, office, moments[moment][office]) for moment, office in places]
+
+
+def fractions(source, many, most=7):
+    """Return fractions from 0 to 1, all of them proper, 0 and 1 among them."""
+    out = []
+    for _ in range(many):
+        bottom = source.randint(1, most)
+        one = Fraction(source.randint(0, bottom), bottom)
+        out.append((one.numerator, one.denominator))
+    return tuple(out)
+
+
+def chance_apart(rows, doing, chances):
+    """Return the chance of a doing, row by row."""
+    found = Fraction(1)
+    for (_, _, sure), done, (top, bottom) in zip(rows, doing, chances):
+        if not sure:
+            found *= Fraction(top, bottom) if done else 1 - Fraction(top, bottom)
     return found

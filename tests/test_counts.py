@@ -4,22 +4,17 @@ import unittest
 from fractions import Fraction
 
 from oracles import all_rows, counts_on, finals, finals_led_on, run, some_rows, true_in
-from samples import with_finds
+from samples import chance_apart, finds_of, fractions, rows_of, with_finds
 from takenover.changes import behind, repeated
 from takenover.counts import (all_doings, asked_next, chance, count_doings, count_final, doing_at, doing_number,
                               ever_held, fewest_done, final_rows)
 from takenover.errors import (NoChances, NoDoing, NoEdition, NoFinds, NoMoment, NoNumber, NoOffice, TooMany)
 from takenover.logs import Log
-from wrongs import K, NO_FINDS, SURE, error_of, nested, try_wrongs, wrong_but, wrong_numbers, wrong_things
+from wrongs import (HALVES, K, NO_CHANCES, NO_FINDS, NO_FRACTIONS, SURE, error_of, try_wrongs, wrong_but, wrong_numbers,
+                    wrong_things)
 
 SIZES = ((1, 0, 3), (2, 6, 20), (3, 7, 40), (4, 8, 40), (5, 9, 10), (8, 9, 3))
 FINDS = [(2, 2, 1), (4, 1, 1)]
-HALVES = ((1, 2),) * 4
-NO_CHANCES = wrong_but([()]) + [HALVES[:3], HALVES + HALVES[:1], list(HALVES)]
-NO_FRACTIONS = [(2, 4), (0, 2), (5, 5), (1, 0), (0, 0), (-1, 2), (1, -2), (-1, -2), (0, -1), (3, 2), (2, 1), (True, 2),
-                (1, True), (False, 1), (0, True), (1,), (1, 2, 3), [1, 2], None, 0, 1, "12", "1/2", (1, None), ("1", 2),
-                (nested(tuple, 38), 1), (1, nested(list, 38)), (10 ** 39, 1), Log(1, ()), {1: 2}, (10, 10 ** 39)]
-NO_CHANCES += [HALVES[:at] + (one,) + HALVES[at + 1:] for one in NO_FRACTIONS for at in (0, 2, 3)]
 # Logs and finds with just so many doings, rows as "XY", sure ones as "XY!".
 JUST = ((2000, 4, "32 32 21 12 10 10 01 21 21 12 12 21 32", [(13, 1, 1), (13, 2, 1)]),
         (2001, 3, "21 21 21 21 21 12 21 12 01 10 10 21 10", [(13, 1, 0), (13, 2, 1)]),
@@ -29,38 +24,6 @@ JUST_SHEETS = ((2000, "12 21 32 76 01 21 56 76 76 21 56 45 67 43 23 34 10 43 54 
                (2001, "32 32 10 65 01 45 21 65 32 10 10 43 10 34 23 01 67 43 76 34 01 54 32 43 43 65 56 65 10 45 76"),
                (1999, "45 34 43 10 54 65 65 10 76 54 56 45 10 12 65 01 10 10 23 45 76 21 12 10 32 21 54 45 23 76 76 56"))
 TWICE = ((0, 1, False), (1, 0, False))
-
-
-def rows_of(text):
-    """Return the rows of a text."""
-    return tuple((int(one[0]), int(one[1]), one.endswith("!")) for one in text.split())
-
-
-def finds_of(source, log, many, done=0.2):
-    """Return finds that are true in one doing."""
-    offices, rows = log.offices, log.rows
-    moments = run(offices, rows, tuple(sure or source.random() < done for _, _, sure in rows))
-    places = [(source.randint(0, len(rows)), source.randrange(offices)) for _ in range(many)]
-    return [(moment, office, moments[moment][office]) for moment, office in places]
-
-
-def fractions(source, many, most=7):
-    """Return fractions from 0 to 1, all of them proper, 0 and 1 among them."""
-    out = []
-    for _ in range(many):
-        bottom = source.randint(1, most)
-        one = Fraction(source.randint(0, bottom), bottom)
-        out.append((one.numerator, one.denominator))
-    return tuple(out)
-
-
-def chance_apart(rows, doing, chances):
-    """Return the chance of a doing, row by row."""
-    found = Fraction(1)
-    for (_, _, sure), done, (top, bottom) in zip(rows, doing, chances):
-        if not sure:
-            found *= Fraction(top, bottom) if done else 1 - Fraction(top, bottom)
-    return found
 
 
 def word(many, all_of_them):

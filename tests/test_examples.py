@@ -11,8 +11,10 @@ from takenover.logs import Log, bloodline, sheets
 from takenover.orders import orders
 from takenover.posts import price
 from takenover.telling import told
+from takenover.webs import Web, greatest_lot, is_block, is_ways
 
 K = Log(4, ((1, 0, False), (2, 1, False), (2, 3, False), (1, 2, False)))
+W = Web(3, ((0, 1, True), (2, 1, True), (1, 0, False)))
 
 
 class Examples(unittest.TestCase):
@@ -52,6 +54,11 @@ class Examples(unittest.TestCase):
         self.assertEqual(16, count_doings(K, []))
         self.assertEqual(8, count_final(K))
         self.assertEqual((2, (False, False, True, True)), fewest_done(K, [(4, 1, 3)]))
+
+    def test_e10(self):
+        self.assertEqual((1,), greatest_lot(W))
+        self.assertIs(True, is_block(W, (0, 1), ((0, 1),)))
+        self.assertIs(True, is_ways(W, (1,), ((1, 1, 1, 1),)))
 
 
 if __name__ == "__main__":

@@ -23,6 +23,11 @@ STATEMENTS = (ast.FunctionDef, ast.ClassDef, ast.Import, ast.ImportFrom, ast.Ass
 EXPRESSIONS = (ast.GeneratorExp, ast.Yield, ast.YieldFrom, ast.Await, ast.NamedExpr, ast.Global)
 
 
+AT_ONCE = set("range enumerate zip reversed".split())
+VIEWS = set("items keys values".split())
+TAKING = set("list tuple dict sorted sum any all enumerate zip min max combinations".split())
+
+
 def file_names():
     return sorted(name for name in os.listdir(PACKAGE) if name != "__pycache__")
 
@@ -97,7 +102,12 @@ class Language(unittest.TestCase):
                 self.assertIsInstance(node, STATEMENTS, name)
             self.assertEqual([], nodes(tree, *EXPRESSIONS, ast.AsyncFunctionDef, ast.Starred), name)
             self.assertEqual([], [node for node in nodes(tree, ast.FunctionDef) if node.decorator_list], name)
-            self.assertEqual([], nodes(tree, ast.Div, ast.Try, ast.With, ast.Match), name)
+            self.assertEqual([], nodes(tree, ast.Div, ast.With, ast.Match), name)
+            for node in nodes(tree, ast.Try):
+                self.assertEqual([], node.handlers, name)
+                for statement in node.finalbody:
+                    self.assertIsInstance(statement, ast.Assign)
+                    self.assertEqual([], nodes(statement, ast.Call, ast.Subscript, ast.BinOp))
             for node in nodes(tree, ast.BinOp):
                 if isinstance(node.op, ast.Pow):
                     self.assertIn(node.right.value, range(65), name)
@@ -130,6 +140,47 @@ class Language(unittest.TestCase):
             for node in nodes(tree, ast.Compare):
                 if any(isinstance(sign, (ast.Is, ast.IsNot)) for sign in node.ops):
                     self.assertTrue(all(isinstance(side, ast.Constant) for side in node.comparators), name)
+
+    def test_what_is_iterated_at_once(self):
+        for name, tree in trees().items():
+            right = {id(node.iter) for node in nodes(tree, ast.For, ast.comprehension)}
+            for node in nodes(tree, ast.Call):
+                if isinstance(node.func, ast.Name) and node.func.id in TAKING:
+                    right |= {id(arg) for arg in (node.args if node.func.id == "zip" else node.args[:1])}
+            for node in nodes(tree, ast.Call):
+                views = isinstance(node.func, ast.Attribute) and node.func.attr in VIEWS
+                if views or isinstance(node.func, ast.Name) and node.func.id in AT_ONCE:
+                    self.assertIn(id(node), right, (name, node.lineno))
+
+    def test_sets_stand_in_few_places(self):
+        for name, tree in trees().items():
+            right = {id(arg) for node in nodes(tree, ast.Call) if getattr(node.func, "id", "") in ("sorted", "len")
+                     for arg in node.args}
+            made = [node for node in nodes(tree, ast.Call) if getattr(node.func, "id", "") == "set"]
+            for node in made + nodes(tree, ast.Set, ast.SetComp):
+                self.assertIn(id(node), right, (name, node.lineno))
+
+    def test_no_name_is_a_method_and_an_attribute(self):
+        methods, attributes = set(), set()
+        for tree in trees().values():
+            for node in nodes(tree, ast.ClassDef):
+                methods |= {inner.name for inner in nodes(node, ast.FunctionDef)}
+            attributes |= {node.attr for node in nodes(tree, ast.Attribute) if isinstance(node.ctx, ast.Store)}
+        self.assertEqual(set(), methods & attributes)
+
+    def test_what_a_loop_goes_over_is_not_changed_in_it(self):
+        changing = set("append extend insert pop remove clear reverse update setdefault".split())
+        for name, tree in trees().items():
+            loops = nodes(tree, ast.For)
+            # A range is told before the loop begins.
+            for loop in [one for one in loops if getattr(getattr(one.iter, "func", None), "id", "") != "range"]:
+                over = {node.id for node in nodes(loop.iter, ast.Name)}
+                for node in [inner for statement in loop.body for inner in nodes(statement, ast.Call)]:
+                    if isinstance(node.func, ast.Attribute) and node.func.attr in changing:
+                        self.assertNotIn(getattr(node.func.value, "id", None), over, (name, node.lineno))
+                for node in [inner for statement in loop.body for inner in nodes(statement, ast.Subscript)]:
+                    if isinstance(node.ctx, (ast.Store, ast.Del)):
+                        self.assertNotIn(getattr(node.value, "id", None), over, (name, node.lineno))
 
     def test_each_function_and_class_of_the_package_says_what_it_is(self):
         for name, tree in trees().items():

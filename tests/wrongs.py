@@ -2,8 +2,10 @@
 
 import math
 
+from takenover.archives import Archive
 from takenover.errors import BadLog, NoAnswer, NoDoing
 from takenover.logs import Log
+from takenover.webs import Web
 
 
 K = Log(4, ((1, 0, False), (2, 1, False), (2, 3, False), (1, 2, False)))
@@ -32,6 +34,7 @@ def wrong_things():
     out += [object(), int, tuple, Log, NoDoing, len, math, nested, lambda thing: thing, a_generator(), iter([0])]
     out += [iter(()), map(str, ()), property(), ValueError("left"), NoDoing(), BadLog("rows"), NoAnswer(0, [1])]
     out += [Log(1, ()), Log(4, ((1, 0, True),)), (Log(1, ()),), [Log(1, ())], (NoDoing(), NoDoing(), NoDoing())]
+    out += [Web(1, ()), Web(4, ((0, 3, True),)), (Web(1, ()),), [Web(4, ())], Archive(4), (Archive(1),), Web, Archive]
     for deep in (36, 40):
         out += [nested(tuple, deep), nested(list, deep), nested(dict, deep), (nested(list, deep - 1), 0, 0)]
         out += [("post", "left", nested(tuple, deep - 1)), (0, nested(tuple, deep - 1), 0)]
@@ -96,3 +99,9 @@ def try_wrongs(case, function, args, errors):
 
 
 NO_FINDS = no_finds(40)
+HALVES = ((1, 2),) * 4
+NO_CHANCES = wrong_but([()]) + [HALVES[:3], HALVES + HALVES[:1], list(HALVES)]
+NO_FRACTIONS = [(2, 4), (0, 2), (5, 5), (1, 0), (0, 0), (-1, 2), (1, -2), (-1, -2), (0, -1), (3, 2), (2, 1), (True, 2),
+                (1, True), (False, 1), (0, True), (1,), (1, 2, 3), [1, 2], None, 0, 1, "12", "1/2", (1, None), ("1", 2),
+                (nested(tuple, 38), 1), (1, nested(list, 38)), (10 ** 39, 1), Log(1, ()), {1: 2}, (10, 10 ** 39)]
+NO_CHANCES += [HALVES[:at] + (one,) + HALVES[at + 1:] for one in NO_FRACTIONS for at in (0, 2, 3)]
