@@ -59,3 +59,9 @@ def chance_apart(rows, doing, chances):
         if not sure:
             found *= Fraction(top, bottom) if done else 1 - Fraction(top, bottom)
     return found
+
+
+# Logs of 8 offices with just so many sheets at the last moment.
+JUST_SHEETS = ((2000, "12 21 32 76 01 21 56 76 76 21 56 45 67 43 23 34 10 43 54 54 01! 10 01 43 56 12 23 65 01"),
+               (2001, "32 32 10 65 01 45 21 65 32 10 10 43 10 34 23 01 67 43 76 34 01 54 32 43 43 65 56 65 10 45 76"),
+               (1999, "45 34 43 10 54 65 65 10 76 54 56 45 10 12 65 01 10 10 23 45 76 21 12 10 32 21 54 45 23 76 76 56"))

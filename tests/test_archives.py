@@ -4,7 +4,7 @@ import unittest
 from oracles import right_chain, row_choices, run, there_at, true_in
 from takenover.archives import Archive
 from takenover.dated import is_doing_for
-from takenover.errors import (BadRow, NoFind, NoMoment, NoNumber, NoOffice, NoRow, NothingDone, SheetError, TooMany)
+from takenover.errors import (BadRow, NoFind, NoMoment, NoNumber, NoOffice, NoRow, NothingDone, TooMany)
 from takenover.logs import Log
 from takenover.telling import editions_at
 from takenover.webs import Web
@@ -434,7 +434,6 @@ class Wrongs(unittest.TestCase):
         archive.strike(0)
         archive.doubt(0)
         self.assertEqual((K, ((0, 0, 1),)), (log, finds))
-        self.assertIsInstance(NoRow(), SheetError)
 
 
 if __name__ == "__main__":

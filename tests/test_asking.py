@@ -3,14 +3,13 @@ import unittest
 
 from itertools import permutations
 
-from oracles import runs, some_rows, there_at, true_in
-from samples import finds_of, rows_of, with_finds
+from oracles import some_rows, there_at, true_in
+from samples import JUST_SHEETS, finds_of, rows_of, with_finds
 from takenover.asking import is_question_tree, question_tree, questions, sheets_at
 from takenover.changes import behind, repeated
 from takenover.errors import NoFinds, NoMoment, TooMany
 from takenover.logs import Log
-from test_counts import JUST_SHEETS
-from wrongs import K, NO_FINDS, SURE, error_of, nested, try_wrongs, wrong_but, wrong_numbers, wrong_things
+from wrongs import K, NO_FINDS, SURE, error_of, nested, try_wrongs, wrong_numbers, wrong_things
 
 SIZES = ((1, 0, 3), (2, 6, 20), (3, 7, 40), (4, 8, 40), (5, 9, 10), (8, 9, 3))
 BAD = [(2, 2, 0), (4, 1, 1)]

@@ -4,7 +4,7 @@ import unittest
 from fractions import Fraction
 
 from oracles import all_rows, counts_on, finals, finals_led_on, run, some_rows, true_in
-from samples import chance_apart, finds_of, fractions, rows_of, with_finds
+from samples import JUST_SHEETS, chance_apart, finds_of, fractions, rows_of, with_finds
 from takenover.changes import behind, repeated
 from takenover.counts import (all_doings, asked_next, chance, count_doings, count_final, doing_at, doing_number,
                               ever_held, fewest_done, final_rows)
@@ -19,10 +19,6 @@ FINDS = [(2, 2, 1), (4, 1, 1)]
 JUST = ((2000, 4, "32 32 21 12 10 10 01 21 21 12 12 21 32", [(13, 1, 1), (13, 2, 1)]),
         (2001, 3, "21 21 21 21 21 12 21 12 01 10 10 21 10", [(13, 1, 0), (13, 2, 1)]),
         (1999, 2, "10 01 01 01 01 01 10 10 01 01 01 01", [(12, 0, 1)]))
-# Logs of 8 offices with just so many sheets at the last moment.
-JUST_SHEETS = ((2000, "12 21 32 76 01 21 56 76 76 21 56 45 67 43 23 34 10 43 54 54 01! 10 01 43 56 12 23 65 01"),
-               (2001, "32 32 10 65 01 45 21 65 32 10 10 43 10 34 23 01 67 43 76 34 01 54 32 43 43 65 56 65 10 45 76"),
-               (1999, "45 34 43 10 54 65 65 10 76 54 56 45 10 12 65 01 10 10 23 45 76 21 12 10 32 21 54 45 23 76 76 56"))
 TWICE = ((0, 1, False), (1, 0, False))
 
 

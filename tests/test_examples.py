@@ -11,6 +11,7 @@ from takenover.logs import Log, bloodline, sheets
 from takenover.orders import orders
 from takenover.posts import price
 from takenover.telling import told
+from takenover.texts import log_text
 from takenover.webs import Web, greatest_lot, is_block, is_ways
 
 K = Log(4, ((1, 0, False), (2, 1, False), (2, 3, False), (1, 2, False)))
@@ -59,6 +60,9 @@ class Examples(unittest.TestCase):
         self.assertEqual((1,), greatest_lot(W))
         self.assertIs(True, is_block(W, (0, 1), ((0, 1),)))
         self.assertIs(True, is_ways(W, (1,), ((1, 1, 1, 1),)))
+
+    def test_e11(self):
+        self.assertEqual("offices 4\nrow 1 0\nrow 2 1\nrow 2 3\nrow 1 2\n", log_text(K))
 
 
 if __name__ == "__main__":

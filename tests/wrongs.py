@@ -3,6 +3,7 @@
 import math
 
 from takenover.archives import Archive
+from takenover.desks import Desk
 from takenover.errors import BadLog, NoAnswer, NoDoing
 from takenover.logs import Log
 from takenover.webs import Web
@@ -35,6 +36,7 @@ def wrong_things():
     out += [iter(()), map(str, ()), property(), ValueError("left"), NoDoing(), BadLog("rows"), NoAnswer(0, [1])]
     out += [Log(1, ()), Log(4, ((1, 0, True),)), (Log(1, ()),), [Log(1, ())], (NoDoing(), NoDoing(), NoDoing())]
     out += [Web(1, ()), Web(4, ((0, 3, True),)), (Web(1, ()),), [Web(4, ())], Archive(4), (Archive(1),), Web, Archive]
+    out += [Desk(), [Desk()], (Desk(), Desk()), Desk]
     for deep in (36, 40):
         out += [nested(tuple, deep), nested(list, deep), nested(dict, deep), (nested(list, deep - 1), 0, 0)]
         out += [("post", "left", nested(tuple, deep - 1)), (0, nested(tuple, deep - 1), 0)]
